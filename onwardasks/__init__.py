@@ -1,0 +1,1 @@
+"""Onwardasks: things that are asked names and pass unknown names on."""
