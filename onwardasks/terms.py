@@ -1,4 +1,4 @@
-"""The plain terms of the program: names, flags, and lists or tuples."""
+"""The plain terms of the program: names, flags, indexes, and lists or tuples."""
 
 LETTERS = "abcdefghijklmnopqrstuvwxyz"
 LONGEST_NAME = 8
@@ -24,3 +24,13 @@ def is_flag(x):
 def is_list(x):
     """Tell whether x is a list or a tuple, which are the same argument."""
     return isinstance(x, (list, tuple))
+
+
+def is_index(x, many):
+    """Tell whether x is an index into so many items: an integer, neither a flag nor negative."""
+    return isinstance(x, int) and not is_flag(x) and 0 <= x < many
+
+
+def has_keys(x, keys):
+    """Tell whether x is a dict with exactly these keys."""
+    return isinstance(x, dict) and len(x) == len(keys) and all([key in x for key in keys])

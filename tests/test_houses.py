@@ -6,18 +6,9 @@ import unittest
 from onwardasks.errors import AskError, BadHouse, NoKind, NoName
 from onwardasks.houses import House
 from onwardasks.kinds import Kind
-from tests.samples import DICTS, LISTS, NO_LISTS, NO_NAMES, NO_NAMES_OR_EMPTY, ODD, plain_kind
+from tests.samples import DICTS, LISTS, NO_LISTS, NO_NAMES, NO_NAMES_OR_EMPTY, ODD, door, plain_kind, room
 
 NO_KINDS = [x for x in ODD if not isinstance(x, Kind)] + ["", "room", True, False] + LISTS + DICTS
-
-
-def door():
-    return Kind("door", {"to": ["room", ""]}, {"sign": ("self",)},
-                [("bar", ["key"]), ("send", [], "to", "", "last", True)])
-
-
-def room():
-    return Kind("room", {}, {"key": ("value", "k"), "lamp": ("value", "on"), "me": ("self",)}, [])
 
 
 def linked(name, *choices):

@@ -1,9 +1,10 @@
-"""Point 2: names, flags, and lists or tuples."""
+"""Point 2: names, flags, indexes, and lists or tuples."""
 
 import unittest
 
-from onwardasks.terms import is_flag, is_list, is_name, is_name_or_empty
-from tests.samples import DICTS, FLAGS, LISTS, NO_FLAGS, NO_LISTS, NO_NAMES, NO_NAMES_OR_EMPTY, ODD
+from onwardasks.terms import has_keys, is_flag, is_index, is_list, is_name, is_name_or_empty
+from tests.samples import (
+    DICTS, FLAGS, LISTS, NO_DICTS, NO_FLAGS, NO_LISTS, NO_NAMES, NO_NAMES_OR_EMPTY, ODD, no_indexes)
 
 NAMES = ["a", "z", "to", "key", "abcdefgh", "zzzzzzzz", "self", "value", "try"]
 
@@ -42,6 +43,22 @@ class TestTerms(unittest.TestCase):
             self.assertIs(is_list(x), True)
         for x in NO_LISTS + ODD + DICTS:
             self.assertIs(is_list(x), False)
+
+    def test_indexes(self):
+        for many in (1, 2, 7):
+            for x in range(many):
+                self.assertIs(is_index(x, many), True)
+            for x in no_indexes(many):
+                self.assertIs(is_index(x, many), False)
+        self.assertIs(is_index(0, 0), False)
+
+    def test_dicts_with_exactly_these_keys(self):
+        self.assertIs(has_keys({}, []), True)
+        self.assertIs(has_keys({"a": 1, "b": None}, {"b": 2, "a": 3}), True)
+        for x in NO_DICTS:
+            self.assertIs(has_keys(x, []), False)
+        for x in ({}, {"a": 1}, {"a": 1, "c": 1}, {"a": 1, "b": 1, "c": 1}, {"a": 1, 1: 1}):
+            self.assertIs(has_keys(x, ["a", "b"]), False)
 
 
 if __name__ == "__main__":
