@@ -1,8 +1,8 @@
 """What is made of lists of rows, or of pairs of a row and its derived positions.
 
-Both are gone through as Sights: objects with the attribute kind, which tell
-what a thing above sees. A row has a Sight of onwardasks.rows, a pair a
-PairSight.
+Both are gone through as Sights: objects with the attributes item (the row or
+the pair) and kind, which tell what a thing above sees. A row has a Sight of
+onwardasks.rows, a pair a PairSight.
 """
 
 from onwardasks.errors import TooMany
@@ -14,6 +14,7 @@ class PairSight:
 
     def __init__(self, pair):
         row, derived = pair
+        self.item = pair
         self.kind = row[0]
         self.full = Sight(row)
         # Which positions are known does not depend on the paths, so all pairs of same may be left out.
@@ -71,15 +72,22 @@ def all_ways(panel, sights):
     return [(kind, way) for kind in panel.kinds() for way in ways(panel, kind, [], [None] + sights)]
 
 
+def items_of(way):
+    """Return the tuple of the rows or pairs of a tuple of Sights, None for nowhere."""
+    return tuple([None if seen is None else seen.item for seen in way])
+
+
 def closure(panel, start, see, make, most):
     """Return a dict whose keys are the least list that contains start and all that is made of it.
 
-    see returns the Sight of a row or pair, make the one that is made of
-    Sights. It raises TooMany(most) as soon as there are more than most.
+    The value of each is the tuple of those of which it was first made, one for
+    each link, or None for nowhere; of those of start it is None. see returns
+    the Sight of a row or pair, make the one that is made of Sights. It raises
+    TooMany(most) as soon as there are more than most.
     """
-    stock = {one: see(one) for one in start}
+    stock = {one: None for one in start}
     old = []
-    new = [None] + list(stock.values())
+    new = [None] + [see(one) for one in start]
     while len(new) > 0:
         found = []
         for kind in panel.kinds():
@@ -88,26 +96,26 @@ def closure(panel, start, see, make, most):
                 if one not in stock:
                     if len(stock) >= most:
                         raise TooMany(most)
-                    stock[one] = see(one)
-                    found.append(stock[one])
+                    stock[one] = items_of(way)
+                    found.append(see(one))
         old = old + new
         new = found
     return stock
 
 
 def makers_of(panel, rows):
-    """Return a dict from each of the rows to the lists of rows among them of which it is made."""
+    """Return a dict from each of the rows to the tuples of rows among them, or None for nowhere, that make it."""
     table = {row: [] for row in rows}
     for kind, way in all_ways(panel, [row_sight(row) for row in rows]):
         row = made_row(panel, kind, way)
         if row in table:
-            table[row].append([seen.row for seen in way if seen is not None])
+            table[row].append(items_of(way))
     return table
 
 
-def is_made(makers, standing):
-    """Tell whether all rows of one of the lists makers are keys of standing."""
-    for rows in makers:
-        if all([row in standing for row in rows]):
-            return True
-    return False
+def standing_maker(makers, standing):
+    """Return the first of the tuples makers whose rows are all keys of standing, or None."""
+    for way in makers:
+        if all([row is None or row in standing for row in way]):
+            return way
+    return None

@@ -1,7 +1,7 @@
 """Houses: the kinds that belong together, and the columns of their names."""
 
-from onwardasks.errors import BadHouse, NoKind, NoName
-from onwardasks.kinds import Kind
+from onwardasks.errors import BadHouse, NoKind, NoLink, NoName
+from onwardasks.kinds import Kind, is_link
 from onwardasks.terms import is_list, is_name_or_empty
 
 MOST_KINDS = 4
@@ -91,3 +91,16 @@ class House:
 
     def __eq__(self, other):
         return isinstance(other, House) and self.kind_table == other.kind_table
+
+
+def check_kind(house, kind):
+    """Raise NoKind if kind is not the name of a kind of the house."""
+    if not isinstance(kind, str) or kind not in house.kinds():
+        raise NoKind(kind)
+
+
+def check_link(house, kind, link):
+    """Raise NoKind as check_kind does, or NoLink if link is not a link of the kind."""
+    check_kind(house, kind)
+    if not is_link(link, house[kind].links()):
+        raise NoLink(link)

@@ -1,6 +1,6 @@
 """The lists of a panel, which tell what comes in all graphs, and the judges of such lists."""
 
-from onwardasks.closures import all_ways, closure, is_made, made_pair, makers_of, pair_sight, row_sight
+from onwardasks.closures import all_ways, closure, made_pair, makers_of, pair_sight, row_sight, standing_maker
 from onwardasks.errors import BadRow
 from onwardasks.panels import seed
 from onwardasks.rows import is_whole, kept_row, known_positions, made_row, read_as_endless
@@ -21,21 +21,26 @@ def spread(panel):
 
 
 def fallen_and_standing(panel):
-    """Return the list of the rows that fall, in their order, and the ascending list of the others."""
-    standing = {row: True for row in sorted([read_as_endless(row) for row in spread(panel)])}
+    """Return the list of the rows that fall, in their order, and a dict of the claims, ascending.
+
+    The value of each claim is a tuple of the claims of which it is made, one
+    for each link, or None for nowhere.
+    """
+    standing = {row: None for row in sorted([read_as_endless(row) for row in spread(panel)])}
     makers = makers_of(panel, list(standing))
     fallen = []
     while True:
-        weak = {row: True for row in standing if not is_made(makers[row], standing)}
+        held_by = {row: standing_maker(makers[row], standing) for row in standing}
+        weak = [row for row in standing if held_by[row] is None]
         if len(weak) == 0:
-            return fallen, list(standing)
-        fallen.extend(list(weak))
-        standing = {row: True for row in standing if row not in weak}
+            return fallen, held_by
+        fallen.extend(weak)
+        standing = {row: None for row in standing if held_by[row] is not None}
 
 
 def claims(panel):
     """Return the greatest list of rows of spread, read as endless, that are made of one another."""
-    return fallen_and_standing(panel)[1]
+    return list(fallen_and_standing(panel)[1])
 
 
 def fall(panel):
@@ -44,7 +49,7 @@ def fall(panel):
 
 
 def founded_on(panel, rows):
-    """Return a dict whose keys are the founded pairs above these claims."""
+    """Return a dict whose keys are the founded pairs above these claims; closure tells the values."""
     return closure(panel, [(row, ()) for row in rows], pair_sight, made_pair, MOST_PAIRS)
 
 
@@ -53,11 +58,16 @@ def founded(panel):
     return sorted(founded_on(panel, claims(panel)))
 
 
+def full_pair(row):
+    """Return the pair of a row with all positions of known entries as derived."""
+    return row, known_positions(row[1])
+
+
 def real(panel):
     """Return the list of exactly the rows that things have in graphs."""
     rows = claims(panel)
     pairs = founded_on(panel, rows)
-    return [row for row in rows if (row, known_positions(row[1])) in pairs]
+    return [row for row in rows if full_pair(row) in pairs]
 
 
 def kept_rows(panel, rows, whole_only):
@@ -98,10 +108,10 @@ def fall_fault(panel, rows, order):
         row = kept_row(panel, one)
         if row is None or row not in standing:
             return "row", index
-        if is_made(makers[row], standing):
+        if standing_maker(makers[row], standing) is not None:
             return "stands", index
         del standing[row]
-    return least_lack([row for row in standing if not is_made(makers[row], standing)], {})
+    return least_lack([row for row in standing if standing_maker(makers[row], standing) is None], {})
 
 
 def kept_founded_pair(panel, pair, rows):

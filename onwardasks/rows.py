@@ -11,7 +11,7 @@ class Sight:
     """A row as a thing above it sees it: leads tells for each position the first one with the same path."""
 
     def __init__(self, row):
-        self.row = row
+        self.item = row
         self.kind = row[0]
         self.entries = row[1]
         self.leads = leads_of(row[2], len(row[1]))
@@ -129,6 +129,23 @@ def entry_of(steps, below):
         if step.is_last:
             return REFUSED, None
     return REFUSED, None
+
+
+def asked_by(steps, below):
+    """Return the list of the (link, position) that placed steps ask, up to the step that tells the entry.
+
+    below is as in entry_of; the entry is a known one.
+    """
+    asked = []
+    for step in steps:
+        seen = None if step.answer is not None else below[step.link]
+        if seen is not None and step.asked is not None:
+            asked.append((step.link, step.asked))
+            if seen.entries[step.asked] != REFUSED:
+                return asked
+        if step.is_last or seen is not None and step.asked is None:
+            return asked
+    return asked
 
 
 def made_row(panel, kind, below):

@@ -273,3 +273,88 @@ def rows_in_graphs(houses, most):
     """Return the set of the rows of all things in all graphs of at most so many things."""
     return {slow_row_of(houses, things, index)
             for many in range(1, most + 1) for things in all_things(houses[0], many) for index in range(many)}
+
+
+def slow_follows(house, things, index, link, name, bare=False):
+    """Tell whether a thing follows the one at its link at a name (point 28)."""
+    answer = SlowAsk(house, things, index, name).answer
+    wanted = SlowAsk(house, things, things[index][1][link], name).answer
+    if wanted == SELF and bare:
+        wanted = ("thing", (link,))
+    elif wanted[0] == "thing":
+        wanted = ("thing", (link,) + wanted[1])
+    return answer == wanted
+
+
+def slow_hop(house, things, index, name):
+    """Return the index of the thing that a thing answers, or None if it answers none."""
+    answer = SlowAsk(house, things, index, name).answer
+    if answer == SELF:
+        return index
+    return slow_path_end(things, index, answer[1]) if answer[0] == "thing" else None
+
+
+def slow_leak(house, things, index, longest):
+    """Return the first shortest walk of at most so many names from a thing to a hidden one, or None."""
+    for many in range(1, longest + 1):
+        for walk in itertools.product(house.columns(), repeat=many):
+            end = index
+            for name in walk:
+                end = None if end is None else slow_hop(house, things, end, name)
+            if end is not None and house[things[end][0]].hidden:
+                return walk
+    return None
+
+
+def slow_held(house, things, index):
+    """Return the set of the kinds of the things with which walks from a thing end."""
+    ends, waiting = {index}, [index]
+    while waiting:
+        here = waiting.pop()
+        for name in house.columns():
+            end = slow_hop(house, things, here, name)
+            if end is not None and end not in ends:
+                ends.add(end)
+                waiting.append(end)
+    return {things[end][0] for end in ends}
+
+
+def slow_asked(houses, kind, below, position):
+    """Return the set of the (row below, position) that are asked at a position of the row made of below."""
+    columns = slow_columns(houses)
+    side, column = columns[position]
+    asked = set()
+
+    def look(link, name):
+        row = below[link]
+        if row is None or name is None:
+            return row
+        place = columns.index((side, name))
+        asked.add((row, place))
+        entry = row[1][place]
+        return ("thing", ("on",)) if entry[0] == "thing" else entry
+
+    go_through(houses[side][kind], column, look)
+    return asked
+
+
+def slow_edges(house, rows):
+    """Return a dict from each (row, position) with a known entry to the set of those that it asks (point 27)."""
+    edges = {(row, position): set() for row in rows for position in known(row)}
+    for kind in house.kinds():
+        for below in belows([house], kind, rows, lambda row: row[0]):
+            row = slow_made([house], kind, below)
+            for position in known(row):
+                edges[(row, position)] |= slow_asked([house], kind, below, position)
+    return edges
+
+
+def slow_deepest(edges, starts):
+    """Return the number of nodes on a longest way; None if one may be longer than there are nodes."""
+    many, level = 0, set(starts)
+    while level:
+        many += 1
+        if many > len(edges):
+            return None
+        level = set().union(*(edges[node] for node in level))
+    return many or -1

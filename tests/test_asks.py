@@ -256,6 +256,31 @@ class TestMeasures(unittest.TestCase):
         graph = chain(1500, [send([], "", "try"), send([], "", "try")])
         self.assertEqual(sends(graph, 0, ""), 2 ** 1500 - 2)
 
+    def test_sends_of_several_tries_in_great_chains(self):
+        """What fails is tried under one name after the other; the numbers follow from those of the next thing."""
+        rules = [send(["a"], "", "try"), send(["a"], "b", "try"), send(["a"], "", "try"),
+                 send(["b"], "a", "try"), send(["b"], "b", "try", True)]
+        many = 1300
+        graph = chain(many, rules)
+        of_a = of_b = 0
+        for _ in range(many - 1):
+            of_a, of_b = 2 * (1 + of_a) + 1 + of_b, 2 + of_a + of_b
+        self.assertEqual([sends(graph, 0, "a"), sends(graph, 0, "b"), sends(graph, 0, "c")], [of_a, of_b, 0])
+        self.assertEqual([ask(graph, 0, "a"), depth(graph, 0, "a")], [("refused",), many])
+        self.assertEqual(len(trail(graph, 0, "a")), 2 * many - 1)
+        self.assertEqual(looked(graph, 0, "a"), [(k, "to") for k in range(many)])
+
+    def test_sends_of_tries_above_an_answer_at_the_end_of_a_great_chain(self):
+        # Each thing tries "b", which all refuse down to the end, and then "a", which the last one tells.
+        house = House([Kind("k", {"to": ["k", "z"]}, {}, [send(["a", "b"], "b", "try"), send(["a"])]),
+                       Kind("z", {}, {"a": ("value", "v")}, [])])
+        many = 2000
+        graph = Graph(house, [("k", {"to": k + 1}) for k in range(many - 1)] + [("z", {})])
+        self.assertEqual(ask(graph, 0, "a"), ("value", "v"))
+        self.assertEqual(sends(graph, 0, "b"), many - 1)
+        self.assertEqual(sends(graph, 0, "a"), many - 1 + many * (many - 1) // 2)
+        self.assertEqual(depth(graph, 0, "a"), many)
+
     def test_sends_with_three_hundred_rules(self):
         graph = chain(40, [send([], "", "try")] * 300)
         self.assertEqual(sends(graph, 0, ""), (300 ** 40 - 300) // 299)
