@@ -2,8 +2,9 @@
 
 from onwardasks.closures import items_of
 from onwardasks.errors import NoName
-from onwardasks.facts import Facts, real_ways, shown
+from onwardasks.facts import Facts, real_sights, shown
 from onwardasks.houses import check_link
+from onwardasks.linkends import ends_asked, ways
 from onwardasks.panels import Panel
 from onwardasks.rows import entry_of
 from onwardasks.steps import SELF
@@ -40,14 +41,26 @@ def follows(steps, way, link, position, bare):
     return entry == wanted
 
 
+def ways_with(facts, kind, link):
+    """Return all ways in which real rows stand at the links of a kind, but nowhere at this one.
+
+    A row at this link is told apart from others at all positions, since all
+    of its answers are looked at.
+    """
+    panel = facts.panel
+    asked = panel.asked_at(kind)
+    asked[link] = list(range(len(panel.columns())))
+    return [way for way in ways(ends_asked(panel, kind, asked, real_sights(facts)), True) if way[link] is not None]
+
+
 def first_unlike(facts, kind, link, columns, bare):
     """Return the first of the columns at which a thing does not follow, and a Graph that shows it; or None."""
     place = list(facts.panel.links(kind)).index(link)
     all_steps = facts.panel.steps_of(kind)
-    ways = [way for way in real_ways(facts, kind) if way[place] is not None]
+    rows_below = ways_with(facts, kind, place)
     for column in columns:
         position = facts.panel.columns().index((0, column))
-        for way in ways:
+        for way in rows_below:
             if not follows(all_steps[position], way, place, position, bare):
                 return column, shown(facts, [(kind, items_of(way), place)], way[place].item)
     return None

@@ -6,6 +6,7 @@ onwardasks.rows, a pair a PairSight.
 """
 
 from onwardasks.errors import TooMany
+from onwardasks.linkends import link_ends, offer_more, ways
 from onwardasks.rows import UNKNOWN, Sight, entry_of, known_positions, made_row
 
 
@@ -19,6 +20,10 @@ class PairSight:
         self.full = Sight(row)
         # Which positions are known does not depend on the paths, so all pairs of same may be left out.
         self.derived = Sight((row[0], derived_entries(row[1], derived), ()))
+
+    def look(self, positions):
+        """Return what a thing above sees that asks at these positions."""
+        return self.full.look(positions), tuple([self.derived.entries[p] == UNKNOWN for p in positions])
 
 
 def derived_entries(entries, derived):
@@ -44,34 +49,6 @@ def made_pair(panel, kind, below):
     return made_row(panel, kind, full), known_positions(entries)
 
 
-def fits(seen, choices):
-    """Tell whether a Sight, or None for nowhere, is allowed at a link with these choices."""
-    return "" in choices if seen is None else seen.kind in choices
-
-
-def ways(panel, kind, old, new):
-    """Return all tuples of Sights or None, one allowed at each link of a kind, with at least one of the new ones.
-
-    old is empty the first time. Then the empty tuple of a kind without links
-    counts as new, so that it comes once, too.
-    """
-    # The tuples for the links so far, with a new one among them and without.
-    fresh = [()] if len(old) == 0 else []
-    stale = [()] if len(old) > 0 else []
-    for choices in panel.links(kind).values():
-        old_here = [seen for seen in old if fits(seen, choices)]
-        new_here = [seen for seen in new if fits(seen, choices)]
-        fresh = ([way + (seen,) for way in fresh for seen in old_here + new_here]
-                 + [way + (seen,) for way in stale for seen in new_here])
-        stale = [way + (seen,) for way in stale for seen in old_here]
-    return fresh
-
-
-def all_ways(panel, sights):
-    """Return the list of all (kind, tuple for its links) that these Sights allow."""
-    return [(kind, way) for kind in panel.kinds() for way in ways(panel, kind, [], [None] + sights)]
-
-
 def items_of(way):
     """Return the tuple of the rows or pairs of a tuple of Sights, None for nowhere."""
     return tuple([None if seen is None else seen.item for seen in way])
@@ -86,36 +63,49 @@ def closure(panel, start, see, make, most):
     TooMany(most) as soon as there are more than most.
     """
     stock = {one: None for one in start}
-    old = []
-    new = [None] + [see(one) for one in start]
-    while len(new) > 0:
+    found = [see(one) for one in start]
+    ends = {kind: link_ends(panel, kind, found) for kind in panel.kinds()}
+    is_first = True
+    while is_first or len(found) > 0:
         found = []
-        for kind in panel.kinds():
-            for way in ways(panel, kind, old, new):
+        for kind in ends:
+            for way in ways(ends[kind], is_first):
                 one = make(panel, kind, way)
                 if one not in stock:
                     if len(stock) >= most:
                         raise TooMany(most)
                     stock[one] = items_of(way)
                     found.append(see(one))
-        old = old + new
-        new = found
+        is_first = False
+        for ends_of_kind in ends.values():
+            offer_more(ends_of_kind, found)
     return stock
 
 
 def makers_of(panel, rows):
-    """Return a dict from each of the rows to the tuples of rows among them, or None for nowhere, that make it."""
+    """Return a dict from each of the rows to the tuples of lists that make it.
+
+    A tuple has one list for each link: any of its rows, or None for nowhere,
+    can stand there.
+    """
     table = {row: [] for row in rows}
-    for kind, way in all_ways(panel, [row_sight(row) for row in rows]):
-        row = made_row(panel, kind, way)
-        if row in table:
-            table[row].append(items_of(way))
+    for kind in panel.kinds():
+        ends = link_ends(panel, kind, [row_sight(row) for row in rows])
+        for way in ways(ends, True):
+            row = made_row(panel, kind, way)
+            if row in table:
+                table[row].append(tuple([items_of(end.alike(seen)) for end, seen in zip(ends, way)]))
     return table
 
 
 def standing_maker(makers, standing):
-    """Return the first of the tuples makers whose rows are all keys of standing, or None."""
-    for way in makers:
-        if all([row is None or row in standing for row in way]):
-            return way
+    """Return the first of the tuples of rows of makers that are all keys of standing, or None.
+
+    makers is a list of tuples of lists, as makers_of tells them. None stands
+    for nowhere in a tuple of rows.
+    """
+    for lists in makers:
+        found = [[row for row in rows if row is None or row in standing] for rows in lists]
+        if all([len(rows) > 0 for rows in found]):
+            return tuple([rows[0] for rows in found])
     return None

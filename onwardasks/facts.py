@@ -1,6 +1,6 @@
 """What comes in all graphs of a panel, and how to draw a graph that shows it."""
 
-from onwardasks.closures import row_sight, ways
+from onwardasks.closures import items_of, row_sight
 from onwardasks.graphs import Graph
 from onwardasks.lists import fallen_and_standing, founded_on, full_pair
 
@@ -23,9 +23,19 @@ class Facts:
             self.pair_ways[(row, ())] = tuple([None if below is None else (below, ()) for below in way])
 
 
-def real_ways(facts, kind):
-    """Return all tuples of Sights of real rows, or None for nowhere, that a kind allows at its links."""
-    return ways(facts.panel, kind, [], [None] + [row_sight(row) for row in facts.rows])
+def real_sights(facts):
+    """Return the list of the Sights of the real rows."""
+    return [row_sight(row) for row in facts.rows]
+
+
+def links_of_chains(kind, way, link, end):
+    """Return a list of (row, element) for all real rows that can stand at a link in this way.
+
+    An element is one of a chain as shown takes it: a thing of the kind whose
+    link leads on to the row. end is the LinkEnd of the link.
+    """
+    rows = items_of(way)
+    return [(seen.item, (kind, rows[:link] + (seen.item,) + rows[link + 1:], link)) for seen in end.alike(way[link])]
 
 
 class Sketch:

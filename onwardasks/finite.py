@@ -1,10 +1,10 @@
 """Single rows and asks in all graphs: graphs for rows, and how deep asks go."""
 
-from onwardasks.closures import items_of
 from onwardasks.edges import long_way, most_nodes
 from onwardasks.errors import NoRow
-from onwardasks.facts import Facts, real_ways, shown
+from onwardasks.facts import Facts, links_of_chains, real_sights, shown
 from onwardasks.houses import check_kind
+from onwardasks.linkends import link_ends, ways
 from onwardasks.panels import Panel
 from onwardasks.rows import asked_by, is_whole, kept_row, known_positions, made_row
 from onwardasks.steps import ENDLESS
@@ -46,6 +46,16 @@ def ends(house, kind, name):
     return ENDLESS not in answers(house, kind, name)
 
 
+def add_asked(edges, panel, kind, all_ends, way):
+    """Add the edges for one way in which real rows stand at the LinkEnds of a kind."""
+    row = made_row(panel, kind, way)
+    for position, steps in enumerate(panel.steps_of(kind)):
+        if (row, position) in edges:
+            for link, asked in asked_by(steps, way):
+                for below, element in links_of_chains(kind, way, link, all_ends[link]):
+                    edges[(row, position)][(below, asked)] = element
+
+
 def deeper_edges(facts):
     """Return the edges from each (row, position) with a known entry to the (row, position) that it asks.
 
@@ -54,12 +64,9 @@ def deeper_edges(facts):
     """
     edges = {(row, position): {} for row in facts.rows for position in known_positions(row[1])}
     for kind in facts.panel.kinds():
-        for way in real_ways(facts, kind):
-            row = made_row(facts.panel, kind, way)
-            for position, steps in enumerate(facts.panel.steps_of(kind)):
-                if (row, position) in edges:
-                    for link, asked in asked_by(steps, way):
-                        edges[(row, position)][(way[link].item, asked)] = (kind, items_of(way), link)
+        all_ends = link_ends(facts.panel, kind, real_sights(facts))
+        for way in ways(all_ends, True):
+            add_asked(edges, facts.panel, kind, all_ends, way)
     return edges
 
 

@@ -1,10 +1,22 @@
 """Walks in all graphs: which things are answered, and then asked."""
 
-from onwardasks.closures import items_of
 from onwardasks.edges import reached, way_to
-from onwardasks.facts import real_ways
+from onwardasks.facts import links_of_chains, real_sights
+from onwardasks.linkends import link_ends, ways
 from onwardasks.rows import entry_of, made_row
 from onwardasks.steps import SELF
+
+
+def add_handing(edges, panel, kind, ends, way):
+    """Add the edges for one way in which real rows stand at the LinkEnds of a kind."""
+    row = made_row(panel, kind, way)
+    for position, steps in enumerate(panel.steps_of(kind)):
+        path = entry_of(steps, way)[1]
+        if path is not None:
+            link, lead = path
+            targets = edges.setdefault((row, position), {})
+            for below, element in links_of_chains(kind, way, link, ends[link]):
+                targets[(below, lead)] = element
 
 
 def handing_edges(facts):
@@ -12,18 +24,14 @@ def handing_edges(facts):
 
     A target is the (row, position) of which the path goes on, or (row, None)
     for the answered thing itself. The value of each edge is an element of a
-    chain, as for deeper_edges.
+    chain as shown takes it: a thing with this row, the link of which leads to
+    the row of the target.
     """
     edges = {}
     for kind in facts.panel.kinds():
-        for way in real_ways(facts, kind):
-            row = made_row(facts.panel, kind, way)
-            for position, steps in enumerate(facts.panel.steps_of(kind)):
-                path = entry_of(steps, way)[1]
-                if path is not None:
-                    link, lead = path
-                    targets = edges.setdefault((row, position), {})
-                    targets[(way[link].item, lead)] = (kind, items_of(way), link)
+        ends = link_ends(facts.panel, kind, real_sights(facts))
+        for way in ways(ends, True):
+            add_handing(edges, facts.panel, kind, ends, way)
     return edges
 
 

@@ -1,7 +1,8 @@
 """The lists of a panel, which tell what comes in all graphs, and the judges of such lists."""
 
-from onwardasks.closures import all_ways, closure, made_pair, makers_of, pair_sight, row_sight, standing_maker
+from onwardasks.closures import closure, made_pair, makers_of, pair_sight, row_sight, standing_maker
 from onwardasks.errors import BadRow
+from onwardasks.linkends import all_ways
 from onwardasks.panels import seed
 from onwardasks.rows import is_whole, kept_row, known_positions, made_row, read_as_endless
 from onwardasks.terms import is_index, is_list

@@ -35,6 +35,16 @@ def placed_steps(houses, columns, kind):
     return table
 
 
+def asked_by_link(steps_table, many):
+    """Return, for each of many links of a kind, the ascending list of the positions that its placed steps ask there."""
+    asked = [[] for link in range(many)]
+    for steps in steps_table:
+        for step in steps:
+            if step.asked is not None:
+                asked[step.link].append(step.asked)
+    return [sorted(set(positions)) for positions in asked]
+
+
 class Panel:
     """One house, or two houses of the same shape, looked at by positions. A Panel never changes."""
 
@@ -49,6 +59,7 @@ class Panel:
             self.house_list.append(other)
         self.column_list = columns_of(self.house_list)
         self.step_table = {kind: placed_steps(self.house_list, self.column_list, kind) for kind in one.kinds()}
+        self.asked_table = {kind: asked_by_link(self.step_table[kind], len(self.links(kind))) for kind in one.kinds()}
 
     def columns(self):
         """Return the list of the columns (side, column); a position is an index into it."""
@@ -69,6 +80,10 @@ class Panel:
     def steps_of(self, kind):
         """Return, for each position, the placed Steps of a kind, which exists."""
         return self.step_table[kind]
+
+    def asked_at(self, kind):
+        """Return, for each link of a kind, ascending, the ascending list of the positions that are asked there."""
+        return list(self.asked_table[kind])
 
 
 def seen_below(panel, link, choices, row):

@@ -16,6 +16,10 @@ class Sight:
         self.entries = row[1]
         self.leads = leads_of(row[2], len(row[1]))
 
+    def look(self, positions):
+        """Return what a thing above sees that asks at these positions."""
+        return self.kind, tuple([self.entries[p] for p in positions]), tuple([self.leads[p] for p in positions])
+
 
 def leads_of(same, many):
     """Return, for each of many positions, the least position that is joined to it in same, or itself."""

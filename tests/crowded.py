@@ -44,6 +44,16 @@ def hundred_one_pairs():
               send([], "r", "last", link="a")])])
 
 
+def told_and_sent(last):
+    """Return a house with many pairs and this last kind; without one if it is None."""
+    first = [("tell", ["a"], "v"), send(["b"], "a", link="p"), send(["c"], "b", link="p")]
+    rules = first + [("tell", ["d"], "v"), send(["e"], "d", link="q"), send(["f"], "e", link="q")]
+    kinds = [Kind("x", {"p": ["", "x"], "q": ["", "x"]}, {}, rules),
+             Kind("y", {"p": ["", "y"], "q": ["", "y"]}, {}, rules),
+             Kind("z", {"p": ["", "z"]}, {}, first)]
+    return House(kinds if last is None else kinds + [last])
+
+
 def wide_house(*, rules=0):
     """Return a house of four kinds, each with two links to all of them, and so many rules that do not help."""
     kinds = []

@@ -10,7 +10,7 @@ from onwardasks.houses import House
 from onwardasks.kinds import Kind
 from onwardasks.lists import claims, fall, founded, real, spread
 from onwardasks.panels import Panel, made, row_of, seed
-from tests.crowded import hundred_one_pairs, hundred_pairs, sixty_one_rows, sixty_rows, wide_house
+from tests.crowded import hundred_one_pairs, hundred_pairs, sixty_one_rows, sixty_rows, told_and_sent, wide_house
 from tests.drawn import draw_graphs, draw_house, draw_other_house, source
 from tests.reference import (
     all_made, all_made_pairs, as_endless, known, rows_in_graphs, slow_claims, slow_fall, slow_founded, slow_spread)
@@ -240,6 +240,24 @@ class TestTooMany(unittest.TestCase):
             self.assert_too_many(100, function, panel)
         for function in (spread, claims, fall):
             self.assertGreater(len(function(panel)), 1)
+
+    def test_ninety_nine_pairs_and_one_more_or_two(self):
+        """Two kinds with two links have many pairs, of which few look different from above."""
+        self.assertEqual(len(founded(Panel(told_and_sent(None)))), 99)
+        panel = Panel(told_and_sent(Kind("u", {"q": ["u"]}, {}, [send([], link="q")])))
+        self.assertEqual(len(founded(panel)), 100)
+        self.assertEqual(len(real(panel)), 22)
+        panel = Panel(told_and_sent(Kind("u", {}, {}, [("bar", [])], hidden=True)))
+        for function in (founded, real):
+            self.assert_too_many(100, function, panel)
+        self.assertEqual(len(claims(panel)), 22)
+
+    def test_few_rows_and_pairs_are_made_for_a_house_at_its_bound(self):
+        """All pairs at both links would be thousands of ways; most of them look alike where the kinds ask."""
+        panel = Panel(told_and_sent(Kind("u", {"q": ["u"]}, {}, [send([], link="q")])))
+        with mock.patch.object(lists, "made_pair", wraps=lists.made_pair) as counted:
+            self.assertEqual(sorted(founded(panel)), sorted(slow_founded(panel.houses(), claims(panel))))
+        self.assertLess(counted.call_count, 300)
 
     def test_wide_houses(self):
         for house in (wide_house(), wide_house(rules=288)):
