@@ -19,11 +19,11 @@ def is_thing(thing, link_table):
     return isinstance(kind, str) and kind in link_table and has_keys(links, link_table[kind])
 
 
-def may_lead(choices, other, things):
-    """Tell whether a link with these choices may lead to other, an index or None."""
+def may_lead(choices, other, kinds):
+    """Tell whether a link with these choices may lead to other, an index or None; kinds are those of the things."""
     if other is None:
         return "" in choices
-    return is_index(other, len(things)) and things[other][0] in choices
+    return is_index(other, len(kinds)) and kinds[other] in choices
 
 
 def copied_things(house, things):
@@ -34,9 +34,10 @@ def copied_things(house, things):
     for index, thing in enumerate(things):
         if not is_thing(thing, link_table):
             raise BadGraph(index)
+    kinds = [thing[0] for thing in things]
     for index, (kind, links) in enumerate(things):
         for link, choices in link_table[kind].items():
-            if not may_lead(choices, links[link], things):
+            if not may_lead(choices, links[link], kinds):
                 raise BadGraph(index)
     return [(kind, {link: links[link] for link in link_table[kind]}) for kind, links in things]
 

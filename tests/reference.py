@@ -358,3 +358,30 @@ def slow_deepest(edges, starts):
             return None
         level = set().union(*(edges[node] for node in level))
     return many or -1
+
+
+def slow_alike(one, other):
+    """Tell whether two houses are alike, by the rows that are real for both of them; None if these are too many."""
+    houses = [one, other]
+    if slow_spread(houses, 60) is None:
+        return None
+    standing = slow_fall(houses)[1]
+    pairs = slow_founded(houses, standing, 100)
+    if pairs is None:
+        return None
+    half = len(slow_columns(houses)) // 2
+    rows = [row for row in standing if (row, known(row)) in pairs]
+    return all(row[1][p] == row[1][p + half] and (row[1][p][0] != "thing" or (p, p + half) in row[2])
+               for row in rows for p in range(half))
+
+
+def slow_kept(house, lot):
+    """Return the dicts and lists of which the kinds of the house with these rules only are made."""
+    return [(name, house[name].links(), house[name].own(),
+             [rule for index, rule in enumerate(house[name].rules()) if (name, index) in lot]) for name in house.kinds()]
+
+
+def all_lots(house):
+    """Return all lots of the house in the order of point 40."""
+    rules = [(name, index) for name in house.kinds() for index in range(len(house[name].rules()))]
+    return [lot for many in range(len(rules) + 1) for lot in itertools.combinations(rules, many)]
