@@ -1,7 +1,7 @@
 """Two things as one: a kind that answers as a thing does together with the one at its link."""
 
 from onwardasks.errors import BadKind, Bare, NoKind
-from onwardasks.houses import check_link
+from onwardasks.houses import check_kind, check_link
 from onwardasks.kinds import Kind
 from onwardasks.steps import REFUSED, SELF, Step, ending, plain_steps
 from onwardasks.terms import has_keys, is_flag, is_name
@@ -25,6 +25,14 @@ def answers_itself(step):
 def is_told(step):
     """Tell whether a step ends an ask with a value or with the thing itself."""
     return step.answer is not None and step.answer != REFUSED
+
+
+def ended(steps):
+    """Return the same Steps, of which the last one ends the ask in any case."""
+    if len(steps) == 0:
+        return [ending(REFUSED)]
+    last = steps[-1]
+    return steps[:-1] + [Step(last.answer, last.link, last.asked, True, last.wraps)]
 
 
 class Joint:
@@ -87,13 +95,11 @@ class Joint:
             steps.extend([self.renamed(side, below) for below in behind if side == 0 or below.answer != REFUSED])
             if step.is_last or any([is_told(below) for below in behind]):
                 break
-        if len(steps) == 0 or steps[-1].answer is None:
-            steps.append(ending(REFUSED))
-        return steps
+        return ended(steps)
 
 
 def rule_of(step, names):
-    """Return a Step as a rule for these names."""
+    """Return a Step of the new kind as a rule for these names."""
     if step.answer == SELF:
         return "self", names
     if step.answer == REFUSED:
@@ -109,7 +115,8 @@ def rule_of(step, names):
 def joined(house, kind, link, other, name, names):
     """Return a Kind that answers as a thing of the kind does whose link leads to a thing of the kind other."""
     check_link(house, kind, link)
-    if not isinstance(other, str) or other not in house.kinds() or other not in house[kind].links()[link]:
+    check_kind(house, other)
+    if other not in house[kind].links()[link]:
         raise NoKind(other)
     if not is_name(name):
         raise BadKind("name")

@@ -66,7 +66,7 @@ def first_leak(facts, kind):
     if len(starts) == 0:
         return None
     fewest = min([escapes.far[row] for row in starts])
-    stages = escapes.first_walk([row for row in starts if escapes.far[row] == fewest], fewest)
+    stages = escapes.first_walk(starts, fewest)
     last = list(stages[-1][1])[0]
     chain = []
     end = last

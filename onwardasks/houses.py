@@ -101,6 +101,5 @@ def check_kind(house, kind):
 
 def check_link(house, kind, link):
     """Raise NoKind as check_kind does, or NoLink if link is not a link of the kind."""
-    check_kind(house, kind)
     if not is_link(link, house[kind].links()):
         raise NoLink(link)

@@ -132,8 +132,8 @@ def paper_fault(house, lot, paper):
     """Return the first index at which a certificate is wrong, lacks an element or has one too many; or None."""
     compared_rules(house)
     lots = lesser_lots(house, kept_lot(house, lot))
-    elements = list(paper) if is_list(paper) else []
+    given = list(paper) if is_list(paper) else []
     for index, lesser in enumerate(lots):
-        if index >= len(elements) or not is_right(house, lesser, elements[index]):
+        if index >= len(given) or not is_right(house, lesser, given[index]):
             return index
-    return len(lots) if len(elements) > len(lots) else None
+    return len(lots) if len(given) > len(lots) else None

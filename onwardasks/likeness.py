@@ -1,7 +1,6 @@
 """Houses that are compared, and kinds that answer by what another one has."""
 
 from onwardasks.facts import Facts, shown
-from onwardasks.houses import check_kind
 from onwardasks.kinds import Kind
 from onwardasks.panels import Panel
 
@@ -34,8 +33,6 @@ def parted(one, other):
 
 def swapped(house, kind, other):
     """Return the house in which one kind has the own answers and the rules of another one."""
-    check_kind(house, kind)
-    check_kind(house, other)
     old = house[kind]
     source = house[other]
     return house.with_kind(Kind(kind, old.links(), source.own(), source.rules(), hidden=old.hidden))

@@ -22,10 +22,10 @@ class Asked:
 
 
 class Known:
-    """What is known before an ask: the world it is asked in, steps of its kinds, and asks by their Asked.
+    """What is known before an ask: the world it is asked in, steps of its kinds, and the Asked of some asks.
 
     A world has the property house and the methods kind_of and other_end, as a
-    Graph has them. The asks have ended, or their answer is ENDLESS.
+    Graph has them. The answer of an ask that is known may be ENDLESS.
     """
 
     def __init__(self, world, step_table, records):
@@ -68,7 +68,7 @@ class Work:
                 waiting.pop()
                 if len(waiting) == 0:
                     return
-            elif below in self.asked_table or below in self.known.records:
+            elif below in self.asked_table:
                 self.is_endless = True
                 return
             else:
@@ -99,11 +99,8 @@ class Work:
         return None
 
     def ended_of(self, one):
-        """Return the Asked of an ask that has ended, or None."""
-        if one in self.ended:
-            return self.ended[one]
-        found = self.known.records.get(one)
-        return None if found is None or found.answer == ENDLESS else found
+        """Return the Asked of an ask that has ended or is known, or None."""
+        return self.ended[one] if one in self.ended else self.known.records.get(one)
 
     def look(self, asked, index, step):
         """Return the index of the thing at which a step looks, or None."""

@@ -192,13 +192,12 @@ class TestAgainstGraphs(TestUnlike):
                     alone = {name: unlike(house, kind, link, [name]) for name in "pqz"}
                     for _ in range(6):
                         names = [chance.choice("pqz") for _ in range(chance.randint(0, 6))]
-                        told = [name for name in "zpq" if name in names and alone[name] is not None]
-                        column = None if not told else house.column_of(told[0])
-                        self.assert_unlike(column, house, kind, link, names)
+                        told = [house.column_of(name) for name in names if alone[name] is not None]
+                        self.assert_unlike(min(told, default=None), house, kind, link, names)
                     # A name of the house may be missing in it: then p and q stand for "", too.
                     whole = unlike(house, kind, link)
-                    firsts = [house.column_of(name) for name in "zpq" if alone[name] is not None]
-                    self.assertEqual(None if whole is None else whole[0], firsts[0] if firsts else None)
+                    told = [house.column_of(name) for name in "pqz" if alone[name] is not None]
+                    self.assertEqual(whole and whole[0], min(told, default=None))
 
 
 class TestErrors(Case):

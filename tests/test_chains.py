@@ -219,6 +219,13 @@ class TestJoined(Case):
         new = joined(house, "k", "a", "l", "n", {})
         self.assertLessEqual(len(new.rules()), 1)
         self.assertEqual(ask(Graph(house.with_kind(new), [("n", {})]), 0, "p"), ("refused",))
+        # Own answers alone: at most one rule for each column.
+        house = House([Kind("k", {"a": ["l"], "b": ["k"]}, {"p": ("link", "b"), "q": ("value", "v")}, []),
+                       Kind("l", {"c": ["l", ""]}, {"r": ("link", "c")}, [])])
+        names = {(0, "b"): "x", (1, "c"): "y"}
+        self.assert_kind(house, "k", "a", "l", names, joined(house, "k", "a", "l", "n", names))
+        house = house.with_kind(Kind("k", house["k"].links(), {"p": ("link", "b")}, [send([], link="a")]))
+        self.assert_kind(house, "k", "a", "l", names, joined(house, "k", "a", "l", "n", names))
         # Two columns, 149 and 0 rules: at most 300 rules.
         many = House([Kind("k", {"a": ["l"], "b": ["k"]}, {}, [send(["p"], "", "try", link="ab"[k % 2]) for k in range(149)]),
                       Kind("l", {"c": ["l"]}, {"p": ("link", "c")}, [])])

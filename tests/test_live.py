@@ -376,6 +376,23 @@ class TestRemembering(Case):
         self.assertEqual(told(live[0], "a"), ("Refused", "a", ((0, "a"), (1, "c"), (2, "c"))))
         self.assertEqual(live.remembered(), [(0, "a"), (1, "b"), (1, "c"), (2, "c")])
 
+    def test_asks_that_look_at_a_link_in_two_ways(self):
+        """What is removed because of two asks below is removed once, in whatever order they were remembered."""
+        kinds = [Kind("k", {"a": ["k", ""], "b": ["k", ""]}, {},
+                      [send(["p"], "q", "try", link="b"), send(["p"], "", "try", link="a"), ("give", ["q"], "a", "last")])]
+        live = Live(Graph(House(kinds), [("k", {"a": None, "b": 2}), ("k", {"a": None, "b": 2}), ("k", {"a": None, "b": None})]))
+        told(live[0], "p")
+        live[2, "a"] = None
+        self.assertEqual(live.remembered(), [])
+        told(live[0], "p")
+        live[0, "a"] = 1
+        self.assertEqual(live.remembered(), [(2, "q")])
+        told(live[1], "p")
+        told(live[0], "p")
+        self.assertEqual(live.remembered(), [(0, "p"), (1, "p"), (2, "q")])
+        live[2, "a"] = 0
+        self.assertEqual(live.remembered(), [])
+
     def test_remembered_asks_are_used(self):
         """What is remembered is not worked out again."""
         live = self.chain(200)
@@ -673,6 +690,13 @@ class TestGreatGraphs(Case):
         self.assertEqual(len(live.remembered()), MANY)
         live[0, "to"] = 0
         self.assertEqual(len(live.remembered()), MANY - 1)
+
+    def test_tables_work_out_each_ask_once(self):
+        for house, last in ((ring_house(send(["a"])), 0), (ring_house(send(["a"], "", "try"), ("self", ["a"])), None)):
+            live = Live(Graph(house, [("k", {"to": k + 1}) for k in range(99)] + [("k", {"to": last})]))
+            with mock.patch.object(live_module.Work, "go_on", autospec=True, side_effect=live_module.Work.go_on) as worked:
+                self.assertEqual(len(list(live.tables())), 100)
+            self.assertLess(worked.call_count, 500)
 
     def test_tables_of_a_chain(self):
         house = ring_house(send(["a"], "", "try"), ("tell", ["a"], "v"), send([]))

@@ -123,7 +123,7 @@ class TestReadHouse(Case):
             "give x last", "give x first *", "give x Try *", "give - try *", "give x try a *", "give x try  a", "give x try -",
             "give try *", "send", "send x", "send x =", "send x = try", "send x = try wrap", "send x = try wraps *",
             "send x = try true *", "send x = wrap try *", "send x - try wrap *", "send x * try wrap *", "send = = try wrap *",
-            "send x == try wrap *", "send x K try wrap *", "send x k try Wrap *", "send x  try wrap *", "send x try wrap *",
+            "send x == try wrap *", "send x K try wrap *", "send x k try Wrap *", "send x = first wrap *", "send x k Last bare p", "send x  try wrap *", "send x try wrap *",
             "send x = try wrap * *", "send x = try wrap a *", "send x = try wrap a ", "tells v *", "rule *", "a", "sender",
             "kind a hidden *", "link a b *", "own a self *", "#", "kind a # b", "bar a.b", "bar a,b", "bar a1", "bar a\\", "bar '*'"]
         for line in lines:
