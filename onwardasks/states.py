@@ -13,6 +13,7 @@ class State:
 
     def __init__(self, fixed, ends_now, records, older):
         self.fixed = fixed
+        self.house_below = fixed.house
         self.ends_now = ends_now
         self.records = records
         self.older = older
@@ -24,7 +25,7 @@ class State:
     @property
     def house(self):
         """The House of the graph."""
-        return self.fixed.house
+        return self.house_below
 
     def kind_of(self, index):
         """Return the name of the kind of a thing, which exists."""
