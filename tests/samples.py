@@ -3,6 +3,7 @@
 from onwardasks.graphs import Graph
 from onwardasks.houses import House
 from onwardasks.kinds import Kind
+from onwardasks.live import Live
 from onwardasks.panels import Panel
 
 
@@ -33,11 +34,12 @@ def plain_kind(name="room"):
 
 # Nothing in here is a name, "", a flag, a list, a tuple or a dict.
 PLAIN_HOUSE = House([plain_kind()])
+PLAIN_LIVE = Live(Graph(PLAIN_HOUSE, [("room", {})]))
 ODD = [
     None, 0, 1, -1, 2 ** 70, 10 ** 5000, b"", b"to", b"try", bytearray(b"to"), Ellipsis, NotImplemented,
     set(), {"to"}, frozenset(["to"]), range(0), range(2), slice(1), memoryview(b"to"), object(), str, len,
     iter(["to"]), {"to": 1}.keys(), ValueError("to"), plain_kind(), PLAIN_HOUSE,
-    Graph(PLAIN_HOUSE, [("room", {})]), Panel(PLAIN_HOUSE),
+    Graph(PLAIN_HOUSE, [("room", {})]), Panel(PLAIN_HOUSE), PLAIN_LIVE, PLAIN_LIVE[0], PLAIN_LIVE.held(),
 ]
 FLAGS = [True, False]
 STRINGS = ["", "to", "self", "value", "try", "bar"]
