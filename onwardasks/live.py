@@ -89,7 +89,7 @@ class Live:
 
     def trial(self, settings, index, name):
         """Return what a thing answers, as ask does, if links are set for a trial only."""
-        with self.held():
+        with Held(self):
             # What is remembered is not needed here, and need not be looked through for each setting.
             self.state.forget_all()
             for place, link, other in settings:
